@@ -1,0 +1,1 @@
+"""Ringhouse: whole numbers of a ring, ideals, primes, classes, units."""
