@@ -15,6 +15,18 @@ def shared(a, b):
     return great
 
 
+def shared_by(a, b):
+    """The tuple (g, s, t), g the shared number, which is s * a + t * b; a is from 1 on."""
+    # Where a divides b, s is 1 and t is 0.
+    g, low = a, b % a
+    t, later = 0, 1
+    while low != 0:
+        many = g // low
+        g, low = low, g - many * low
+        t, later = later, t - many * later
+    return (g, (g - t * b) // a, t)
+
+
 def root(m):
     """The greatest whole number whose square is at most m."""
     # The guesses fall as long as they are above the root, and the next one is never below it:

@@ -1,5 +1,6 @@
 """What several tests need: reckonings that go another way than the program's, and samples."""
 
+import functools
 import itertools
 import random
 from fractions import Fraction
@@ -96,3 +97,121 @@ def brute_outside(poly, p):
     n = len(poly) - 1
     rows = itertools.product(range(p), repeat=n)
     return [x for x in rows if any(x) and brute_is_whole(poly, p, x)]
+
+
+def brute_stair(k, m, rows):
+    """The stair table of the rows and of m times each row of one 1, by Euclid's steps on whole rows."""
+    left = [tuple(row) for row in rows] + [tuple(m * int(j == i) for j in range(k)) for i in range(k)]
+    table = [None] * k
+    for i in range(k - 1, -1, -1):
+        while sum(row[i] != 0 for row in left) > 1:
+            low = min((row for row in left if row[i] != 0), key=lambda row: abs(row[i]))
+            at = left.index(low)
+            for j, row in enumerate(left):
+                if j != at:
+                    many = row[i] // low[i]
+                    left[j] = tuple(c - many * d for c, d in zip(row, low))
+        low = next(row for row in left if row[i] != 0)
+        left.remove(low)
+        table[i] = low if low[i] > 0 else tuple(-c for c in low)
+    for i in range(k):
+        for j in range(i - 1, -1, -1):
+            many = table[i][j] // table[j][j]
+            table[i] = tuple(c - many * d for c, d in zip(table[i], table[j]))
+    return tuple(table)
+
+
+def brute_holds(table, x):
+    """Whether a row is a sum of the rows of a triangle: the number of times of each row is reckoned."""
+    left = list(x)
+    for i in range(len(table) - 1, -1, -1):
+        if left[i] % table[i][i] != 0:
+            return False
+        many = left[i] // table[i][i]
+        left = [c - many * d for c, d in zip(left, table[i])]
+    return True
+
+
+def brute_made(poly, numbers):
+    """The ideal made by numbers of which one at least is not nought."""
+    rows = [row for x in numbers for row in brute_table(poly, x)]
+    m = next(abs(brute_norm(poly, x)) for x in numbers if any(x))
+    return brute_stair(len(poly) - 1, m, rows)
+
+
+def brute_ideal_product(poly, one, other):
+    rows = [brute_times(poly, x, y) for x in one for y in other]
+    return brute_stair(len(poly) - 1, one[0][0] * other[0][0], rows)
+
+
+def brute_is_ideal(poly, table):
+    """Whether a stair table is an ideal."""
+    t = (0, 1) + (0,) * (len(poly) - 3)
+    return all(brute_holds(table, brute_times(poly, t, row)) for row in table)
+
+
+def corners_of(n, m):
+    """All tuples of n whole numbers from 1 on with the product m."""
+    if n == 1:
+        return [(m,)]
+    return [(d,) + rest for d in range(1, m + 1) if m % d == 0 for rest in corners_of(n - 1, m // d)]
+
+
+def brute_tables(n, m):
+    """All stair tables of n rows of the norm m."""
+    for corners in corners_of(n, m):
+        choices = []
+        for i, corner in enumerate(corners):
+            heads = itertools.product(*(range(c) for c in corners[:i]))
+            choices.append([head + (corner,) + (0,) * (n - i - 1) for head in heads])
+        yield from itertools.product(*choices)
+
+
+@functools.lru_cache(maxsize=None)
+def brute_ideals(poly, m):
+    """All ideals of the norm m, in the order of the tables."""
+    return tuple(sorted(table for table in brute_tables(len(poly) - 1, m) if brute_is_ideal(poly, table)))
+
+
+def brute_often(poly, prime, ideal):
+    """How often a prime goes into an ideal, by its powers one behind the other."""
+    k, power = 0, prime
+    while all(brute_holds(power, row) for row in ideal):
+        k += 1
+        power = brute_ideal_product(poly, power, prime)
+    return k
+
+
+def norm_of(table):
+    value = 1
+    for i, row in enumerate(table):
+        value *= row[i]
+    return value
+
+
+def rests_by(table):
+    """All rests by a stair table."""
+    return list(itertools.product(*(range(row[i]) for i, row in enumerate(table))))
+
+
+def whole(n, k):
+    """The whole number k as a number of a ring of degree n."""
+    return (k,) + (0,) * (n - 1)
+
+
+def one_table(n, k=1):
+    """The ideal made by k, a whole number from 1 on."""
+    return tuple(tuple(k * int(j == i) for j in range(n)) for i in range(n))
+
+
+def some_number(source, n, reach):
+    """A number that is not nought, with places from -reach to reach."""
+    while True:
+        x = tuple(source.randint(-reach, reach) for i in range(n))
+        if any(x):
+            return x
+
+
+def some_ideals(poly, most=12):
+    """All ideals of norms from 1 to most."""
+    return [table for m in range(1, most + 1) for table in brute_ideals(poly, m)]

@@ -3,7 +3,7 @@
 import math
 import unittest
 
-from ringhouse.whole import parted, root, shared, small_primes
+from ringhouse.whole import parted, root, shared, shared_by, small_primes
 from tests.helper import maker
 
 
@@ -25,6 +25,17 @@ class Point6(unittest.TestCase):
             a = k * source.randrange(-(10 ** 60), 10 ** 60)
             b = k * source.randrange(-(10 ** 60), 10 ** 60)
             self.assertEqual(shared(a, b), math.gcd(a, b))
+
+    def test_shared_by(self):
+        source = maker(61)
+        pairs = [(a, b) for a in range(1, 30) for b in range(-30, 31)]
+        pairs += [(source.randrange(1, 10 ** 80), source.randrange(-(10 ** 80), 10 ** 80)) for time in range(50)]
+        for a, b in pairs:
+            g, s, t = shared_by(a, b)
+            self.assertEqual(g, math.gcd(a, b))
+            self.assertEqual(s * a + t * b, g)
+            if b % a == 0:
+                self.assertEqual((s, t), (1, 0))
 
     def test_root_of_small_ones(self):
         for m in range(3000):
