@@ -27,6 +27,14 @@ def shared_by(a, b):
     return (g, (g - t * b) // a, t)
 
 
+def to_the(base, k):
+    """The product of a whole number taken k times."""
+    value = 1
+    for step in range(k):
+        value = value * base
+    return value
+
+
 def root(m):
     """The greatest whole number whose square is at most m."""
     # The guesses fall as long as they are above the root, and the next one is never below it:

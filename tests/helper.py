@@ -2,6 +2,7 @@
 
 import functools
 import itertools
+import math
 import random
 from fractions import Fraction
 
@@ -215,3 +216,53 @@ def some_number(source, n, reach):
 def some_ideals(poly, most=12):
     """All ideals of norms from 1 to most."""
     return [table for m in range(1, most + 1) for table in brute_ideals(poly, m)]
+
+
+def measure_two(poly):
+    return poly[1] ** 2 - 4 * poly[0]
+
+
+@functools.lru_cache(maxsize=None)
+def unit_bound(poly):
+    """A whole number above some unit that is above 1; 1 where the measure is below 0. Degree two."""
+    d = measure_two(poly)
+    if d < 0:
+        return 1
+    for q in itertools.count(1):
+        for square in (d * q * q - 4, d * q * q + 4):
+            if square >= 0 and math.isqrt(square) ** 2 == square:
+                return (math.isqrt(square) + q * (math.isqrt(d) + 1)) // 2 + 1
+
+
+def brute_of_size(poly, ideal):
+    """A number of the ideal whose norm, without its sign, is that of the ideal; None where there is none."""
+    d, m = measure_two(poly), norm_of(ideal)
+    # Some unit brings both values of such a number below the root of m times the unit.
+    most = math.isqrt(4 * m * unit_bound(poly) // abs(d)) + 1
+    for q in range(most + 1):
+        for square in (d * q * q - 4 * m, d * q * q + 4 * m):
+            if square >= 0 and math.isqrt(square) ** 2 == square:
+                for gap in (math.isqrt(square), -math.isqrt(square)):
+                    x = ((poly[1] * q + gap) // 2, q)
+                    if (poly[1] * q + gap) % 2 == 0 and brute_holds(ideal, x):
+                        return x
+    return None
+
+
+def turned(poly, ideal):
+    """The ideal whose numbers are those of the ideal with the other root in the place of t."""
+    rows = [(x - poly[1] * y, -y) for x, y in ideal]
+    return brute_stair(2, ideal[0][0], rows)
+
+
+def brute_alike(poly, one, other):
+    """Whether two ideals are alike: the product of one and the other turned is then made by one number."""
+    return brute_of_size(poly, brute_ideal_product(poly, one, turned(poly, other))) is not None
+
+
+def brute_home(poly, ideal):
+    """Of all ideals alike to this one the first of the least norm."""
+    for m in range(1, norm_of(ideal) + 1):
+        for other in brute_ideals(poly, m):
+            if brute_alike(poly, ideal, other):
+                return other

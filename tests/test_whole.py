@@ -3,7 +3,7 @@
 import math
 import unittest
 
-from ringhouse.whole import parted, root, shared, shared_by, small_primes
+from ringhouse.whole import parted, root, shared, shared_by, small_primes, to_the
 from tests.helper import maker
 
 
@@ -36,6 +36,11 @@ class Point6(unittest.TestCase):
             self.assertEqual(s * a + t * b, g)
             if b % a == 0:
                 self.assertEqual((s, t), (1, 0))
+
+    def test_to_the(self):
+        for base in range(-3, 5):
+            for k in range(6):
+                self.assertEqual(to_the(base, k), base ** k)
 
     def test_root_of_small_ones(self):
         for m in range(3000):
