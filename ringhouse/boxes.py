@@ -11,7 +11,7 @@ def boxed(ring, ideal, reach, m):
     """The list of the ideal's numbers with places from -reach to reach and the norm m, sign aside."""
     if reach > GREATEST_REACH[ring.degree]:
         raise TooGreat("the box is greater than the bound for this degree")
-    return [x for x in rows_within(reach, ring.degree) if abs(norm(ring, x)) == m and holds(ideal, x)]
+    return [x for x in rows_within(reach, ring.degree) if holds(ideal, x) and abs(norm(ring, x)) == m]
 
 
 def rows_within(reach, n):
