@@ -81,7 +81,8 @@ class Point38(Homes):
     def test_alike_ones_have_the_same_home(self):
         for poly, ring in rings_of(BELOW[4:8] + ABOVE[3:7]):
             for one, other in itertools.combinations(some_ideals(poly, 12), 2):
-                self.assertEqual(home(ring, one) == home(ring, other), brute_alike(poly, one, other), (poly, one, other))
+                due = brute_alike(poly, one, other)
+                self.assertEqual(home(ring, one) == home(ring, other), due, (poly, one, other))
 
     def test_made_by_one_number(self):
         source = maker(38)
