@@ -10,11 +10,15 @@ from ringhouse.whole import divided_out, parted, to_the
 
 def often(ring, prime, ideal):
     """How often a prime goes into an ideal."""
+    return often_by(ring, prime, turn_of(ring, prime), ideal)
+
+
+def often_by(ring, prime, turn, ideal):
+    """How often a prime, whose turn this is, goes into an ideal."""
     p = prime[0][0]
     # Of the ideal's numbers only their rests by this power of p are kept: it is divided by the
     # prime more often than corner 0 is, and so more often than the ideal.
     m = to_the(p, divided_out(ideal[0][0], p)[0] + 1)
-    turn = turn_of(ring, prime)
     rows = [times(ring, x, turn) for x in ideal]
     many = 0
     while all([c % p == 0 for row in rows for c in row]):

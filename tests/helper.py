@@ -6,17 +6,39 @@ import math
 import random
 from fractions import Fraction
 
+from ringhouse.ring import Ring
+
 RINGS = (
     (1, 0, 1), (-1, 1, 1), (5, 0, 1), (-3, 0, 1), (-99, 199, 1), (499, 1, 1), (-10, 0, 1),
     (-2, 0, 0, 1), (1, -1, 0, 1), (-1, -2, 1, 1), (-47, -17, 0, 1), (-198, -65, 0, 1),
     (1, 0, 0, 0, 1), (1, 1, 1, 1, 1), (-1, -1, 0, 0, 1), (2, 0, 0, 0, 1),
     (15, -12, -4, 2, 1),
 )
+# Degree two: measures below 0, above 0, and great places or measures.
+BELOW = (
+    (1, 0, 1), (1, 1, 1), (1, -1, 1), (2, 0, 1), (5, 0, 1), (6, 0, 1), (14, 0, 1), (6, 1, 1), (12, 1, 1), (41, 0, 1),
+    (30, 0, 1), (13, 3, 1), (4, 1, 1), (9, -1, 1), (21, 0, 1), (65, 0, 1), (101, 1, 1),
+)
+ABOVE = (
+    (-1, 1, 1), (-2, 0, 1), (-3, 0, 1), (-6, 0, 1), (-10, 0, 1), (-15, 0, 1), (-34, 0, 1), (-57, 1, 1), (-57, -1, 1),
+    (-1, 3, 1), (-1, -3, 1), (-30, 0, 1), (-16, 1, 1), (-79, 0, 1), (-82, 0, 1), (-36, -1, 1), (-119, 0, 1),
+)
+GREAT_ONES = (
+    (-99, 199, 1), (499, 1, 1), (-499, 0, 1), (-497, 3, 1), (498, 0, 1), (497, 3, 1), (-498, -194, 1), (-493, 193, 1),
+    (497, -41, 1),
+)
+# The least units have from 44 to 184 figures; the norms of the last two are -1.
+GREAT_UNITS = ((-406, 195, 1), (-352, -189, 1), (-406, 180, 1), (-448, 183, 1))
 
 
 def maker(seed):
     """A source of numbers that are the same in each run."""
     return random.Random(seed)
+
+
+def rings_of(polys):
+    """The polynomials, each with its ring."""
+    return [(poly, Ring(poly)) for poly in polys]
 
 
 def refused(call, *things):
@@ -266,3 +288,24 @@ def brute_home(poly, ideal):
         for other in brute_ideals(poly, m):
             if brute_alike(poly, ideal, other):
                 return other
+
+
+def brute_in_sums(rows, row):
+    """Whether a row is a sum of rows, each taken any whole number of times, by Euclid's steps on whole rows."""
+    left = [list(line) for line in rows]
+    due = list(row)
+    for j in range(len(due)):
+        while sum(line[j] != 0 for line in left) > 1:
+            low = min((line for line in left if line[j] != 0), key=lambda line: abs(line[j]))
+            for line in left:
+                if line is not low:
+                    many = line[j] // low[j]
+                    line[:] = [c - many * d for c, d in zip(line, low)]
+        corner = next((line for line in left if line[j] != 0), None)
+        if corner is not None:
+            left = [line for line in left if line is not corner]
+            many = due[j] // corner[j]
+            due = [c - many * d for c, d in zip(due, corner)]
+        if due[j] != 0:
+            return False
+    return True

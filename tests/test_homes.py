@@ -14,27 +14,9 @@ from ringhouse.ring import Ring
 from ringhouse.steps import chosen, on_wheel, place_of, stepped, table_at, turn_at, wheel_from
 from ringhouse.whole import root
 from tests.helper import (
-    RINGS, brute_alike, brute_home, brute_ideal_product, brute_ideals, brute_made, maker, one_table, refused,
-    some_ideals, some_number, turned, whole,
+    ABOVE, BELOW, GREAT_ONES, RINGS, brute_alike, brute_home, brute_ideal_product, brute_ideals, brute_made, maker,
+    one_table, refused, rings_of, some_ideals, some_number, turned, whole,
 )
-
-BELOW = (
-    (1, 0, 1), (1, 1, 1), (1, -1, 1), (2, 0, 1), (5, 0, 1), (6, 0, 1), (14, 0, 1), (6, 1, 1), (12, 1, 1), (41, 0, 1),
-    (30, 0, 1), (13, 3, 1), (4, 1, 1), (9, -1, 1), (21, 0, 1), (65, 0, 1), (101, 1, 1),
-)
-ABOVE = (
-    (-1, 1, 1), (-2, 0, 1), (-3, 0, 1), (-6, 0, 1), (-10, 0, 1), (-15, 0, 1), (-34, 0, 1), (-57, 1, 1), (-57, -1, 1),
-    (-1, 3, 1), (-1, -3, 1), (-30, 0, 1), (-16, 1, 1), (-79, 0, 1), (-82, 0, 1), (-36, -1, 1), (-119, 0, 1),
-)
-GREAT_ONES = (
-    (-99, 199, 1), (499, 1, 1), (-499, 0, 1), (-497, 3, 1), (498, 0, 1), (497, 3, 1), (-498, -194, 1), (-493, 193, 1),
-    (497, -41, 1),
-)
-
-
-def rings_of(polys):
-    """The polynomials, each with its ring."""
-    return [(poly, Ring(poly)) for poly in polys]
 
 
 class Homes(unittest.TestCase):
