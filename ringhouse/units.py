@@ -20,8 +20,8 @@ def units(ring):
         if square >= 0:
             gap = root(square)
             middle = ring.poly[1] * q
-            found.extend([((middle + s) // 2, q) for s in sorted({-gap, gap})])
-    return sorted([x for x in found if is_unit(ring, x)])
+            found.extend([((middle - gap) // 2, q), ((middle + gap) // 2, q)])
+    return [x for x in sorted(set(found)) if is_unit(ring, x)]
 
 
 def is_unit(ring, x):

@@ -37,6 +37,13 @@ NOT_USED = set(
     "methodcaller os quit setattr super type vars sys format format_map".split()
 )
 
+KEYWORDS = {
+    "sorted": ("key", "reverse"), "min": ("key", "default"), "max": ("key", "default"), "sum": ("start",),
+    "enumerate": ("start",), "zip": ("strict",),
+}
+WALKED = ("zip", "enumerate", "reversed", "range")
+WALKERS = ("list", "tuple", "dict", "sorted", "sum", "any", "all", "enumerate", "zip", "min", "max", "reversed")
+
 
 def trees():
     for path in sorted(PACKAGE.glob("*.py")):
@@ -163,6 +170,54 @@ class Language(unittest.TestCase):
                 if isinstance(node, ast.Attribute):
                     known = METHODS | methods if id(node) in called else values
                     self.assertIn(node.attr, known, (name, node.lineno))
+
+    def test_is_stands_beside_none_true_and_false(self):
+        for name, tree in trees():
+            for node in ast.walk(tree):
+                if isinstance(node, ast.Compare) and isinstance(node.ops[0], (ast.Is, ast.IsNot)):
+                    self.assertIsInstance(node.comparators[0], ast.Constant, (name, node.lineno))
+                    self.assertIn(node.comparators[0].value, (None, True, False), (name, node.lineno))
+
+    def test_keywords_of_python_names(self):
+        for name, tree in trees():
+            for node in ast.walk(tree):
+                if isinstance(node, ast.Call) and isinstance(node.func, ast.Name) and node.func.id in OWN_NAMES:
+                    for keyword in node.keywords:
+                        self.assertIn(keyword.arg, KEYWORDS.get(node.func.id, ()), (name, node.lineno))
+
+    def test_what_is_walked_at_once(self):
+        for name, tree in trees():
+            free = set()
+            for node in ast.walk(tree):
+                if isinstance(node, (ast.For, ast.comprehension)):
+                    free.add(id(node.iter))
+                if isinstance(node, ast.Call) and isinstance(node.func, ast.Name) and node.func.id in WALKERS:
+                    free |= {id(part) for part in node.args[:1]}
+            for node in ast.walk(tree):
+                if isinstance(node, ast.Call) and isinstance(node.func, ast.Name) and node.func.id in WALKED:
+                    self.assertIn(id(node), free, (name, node.lineno))
+
+    def test_sets_are_told_through_sorted_or_counted(self):
+        for name, tree in trees():
+            free = set()
+            for node in ast.walk(tree):
+                if isinstance(node, ast.Call) and isinstance(node.func, ast.Name) and node.func.id in ("sorted", "len"):
+                    free |= {id(part) for part in node.args}
+                if isinstance(node, ast.Compare) and isinstance(node.ops[0], (ast.In, ast.NotIn)):
+                    free.add(id(node.comparators[0]))
+            for node in ast.walk(tree):
+                made = isinstance(node, ast.Call) and isinstance(node.func, ast.Name) and node.func.id == "set"
+                if made or isinstance(node, (ast.Set, ast.SetComp)):
+                    self.assertIn(id(node), free, (name, node.lineno))
+
+    def test_errors_that_are_taken_are_the_programs_own(self):
+        own = {node.name for name, tree in trees() for node in tree.body if isinstance(node, ast.ClassDef)}
+        for name, tree in trees():
+            for node in ast.walk(tree):
+                if isinstance(node, ast.ExceptHandler):
+                    self.assertIn(node.type.id, own, (name, node.lineno))
+                if isinstance(node, ast.Raise):
+                    self.assertIn(node.exc.func.id, own, (name, node.lineno))
 
     def test_python(self):
         self.assertGreaterEqual(sys.version_info, (3, 11))

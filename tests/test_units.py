@@ -207,6 +207,17 @@ class Point48(unittest.TestCase):
                 self.assertEqual(as_power(ring, x), (1, k), (poly, k))
                 self.assertEqual(as_power(ring, tuple(-c for c in x)), (-1, k), (poly, k))
 
+    def test_a_great_place_b_beside_a_small_measure(self):
+        for b in (-43, -44, 44, 43, -20, 15):
+            for d in (5, 8, 12, 13):
+                if (b * b - d) % 4 == 0:
+                    poly = ((b * b - d) // 4, b, 1)
+                    ring = Ring(poly)
+                    for k in range(-6, 7):
+                        x = power_of(poly, basic(ring), k)
+                        self.assertEqual(as_power(ring, x), (1, k))
+                        self.assertEqual(as_power(ring, tuple(-c for c in x)), (-1, k))
+
     def test_some_hundred_figures(self):
         for poly in ((-1, 1, 1), (-1, -1, 1), (-2, 0, 1), (-3, 0, 1), (-499, 0, 1), (-99, 199, 1), (-406, 195, 1)):
             ring = Ring(poly)
